@@ -1,0 +1,1 @@
+"""Grantweave: licences of works made of parts."""
