@@ -23,6 +23,8 @@ items join keys ljust lower lstrip partition pop remove replace reverse rfind rj
 split splitlines startswith strip update upper values zfill bit_length""".split()
 WORDS_OUT = """type typing typing_extensions enum Enum IntEnum StrEnum Flag IntFlag Generic Protocol ABC ABCMeta namedtuple
 NamedTuple TypedDict TYPE_CHECKING abstractmethod""".split()
+WALKED = ["zip", "enumerate", "reversed", "range", "items", "keys", "values"]
+WALKERS = ["list", "tuple", "dict", "sorted", "sum", "any", "all", "enumerate", "zip", "min", "max", "join"]
 NAMES_OUT = """register mro elements open input version_info with_traceback add_note format format_map attrgetter
 breakpoint builtins compile copyright credits delattr dir eval exec exit gc getattr globals hasattr help id importlib
 license locals methodcaller os quit setattr super vars sys""".split()
@@ -49,6 +51,18 @@ def bound_names(tree):
             yield node.id
         elif isinstance(node, ast.arg):
             yield node.arg
+
+
+def with_parents(tree):
+    for parent in ast.walk(tree):
+        for child in ast.iter_child_nodes(parent):
+            yield parent, child
+
+
+def called(node):
+    if not isinstance(node, ast.Call):
+        return None
+    return node.func.id if isinstance(node.func, ast.Name) else node.func.attr
 
 
 def in_each_file(test):
@@ -100,6 +114,9 @@ class Form(unittest.TestCase):
             if isinstance(node, ast.Constant):
                 self.assertIn(type(node.value), (int, str, bool, type(None)))
                 self.assertFalse(isinstance(node.value, str) and "%" in node.value)
+            if isinstance(node, ast.FormattedValue):
+                self.assertIsInstance(node.value, ast.Name)
+                self.assertIsNone(node.format_spec)
             if isinstance(node, ast.BinOp) and isinstance(node.op, ast.Pow):
                 self.assertIsInstance(node.right, ast.Constant)
             if isinstance(node, ast.Compare) and any(isinstance(op, (ast.Is, ast.IsNot)) for op in node.ops):
@@ -119,6 +136,21 @@ class Form(unittest.TestCase):
         found = [node.attr for node in ast.walk(tree) if isinstance(node, ast.Attribute)]
         self.assertEqual([name for name in found if name in PYTHONS_METHODS
                           and name not in METHODS and name not in DUNDERS], [])
+
+    @in_each_file
+    def test_what_is_walked_is_not_kept(self, text, tree):
+        for parent, child in with_parents(tree):
+            if called(child) in WALKED:
+                walked = isinstance(parent, (ast.For, ast.comprehension)) and child is parent.iter
+                taken = called(parent) in WALKERS and child in parent.args
+                self.assertTrue(walked or taken, child.lineno)
+
+    @in_each_file
+    def test_sets_are_not_kept(self, text, tree):
+        for parent, child in with_parents(tree):
+            if called(child) in ("set", "frozenset"):
+                self.assertTrue(called(parent) in ("len", "sorted") or isinstance(parent, (ast.Compare, ast.BinOp)),
+                                child.lineno)
 
     @in_each_file
     def test_imports_are_of_the_package_and_at_the_top(self, text, tree):

@@ -5,8 +5,8 @@ import unittest
 
 from grantweave.errors import BadAsks, BadTerms, GrantError, NoDay, NoKey
 from grantweave.licences import Licence, Terms
+from tests.helping import THIRTY, Refusing, licence
 
-THIRTY = 10 ** 30 - 1
 KEY = ("share", 2)
 NO_NUMBERS = [True, False, None, "", "1", "use", [], [1], (), (1,), {}, {1: 1}, Terms(0, 0, 0, 0)]
 NO_TRUTHS = [0, 1, -1, THIRTY, None, "", "True", [], [True], (), (True,), {}, Terms(0, 0, 0, 0)]
@@ -24,27 +24,6 @@ BAD_ASKS = [False, True, 0, "", "0000", {}, {0: 0, 1: 0, 2: 0, 3: 0}, [], (), [0
             [False, 0, 0, 0], (0, None, 0, 0), [0, "0", 0, 0], [0, 0, [0], 0], [None] * 4, [1, 0, 0, 0], [1, 2, 3, 3],
             [0, 1, 0, 1], (0, 0, 1, 0), (0, 3, 1, 3), [1, 1, 1, 2], [0, 4, 2, 6], [0, 0, 0, THIRTY],
             [63, 63, 63, 31], Terms(0, 0, 0, 0)]
-
-
-def licence(key=KEY, lets=0, strings=0, bars=0, reach=0, same=False, asks=None, first=0, last=9999, lasting=True):
-    return Licence(key, lets, strings, bars, reach, same, asks, first, last, lasting)
-
-
-class Refusing(unittest.TestCase):
-    def refused(self, error, found, make):
-        with self.assertRaises(error) as caught:
-            make()
-        self.assertIs(type(caught.exception), error)
-        self.alike(caught.exception.found, found)
-
-    def alike(self, one, other):
-        self.assertIs(type(one), type(other))
-        if isinstance(one, (tuple, list)):
-            self.assertEqual(len(one), len(other))
-            for first, second in zip(one, other):
-                self.alike(first, second)
-        else:
-            self.assertEqual(one, other)
 
 
 class MakingTerms(Refusing):

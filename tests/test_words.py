@@ -6,21 +6,12 @@ from grantweave.errors import NoKey
 from grantweave.licences import Licence, Terms
 from grantweave.words import (bits_of, is_day, is_key, is_mask, is_whole, is_word, key_of, key_text,
                               least_bit, mask_of)
+from tests.helping import THIRTY, nested
 
-THIRTY = 10 ** 30 - 1
 TRUTHS = [True, False]
 NUMBERS = [-THIRTY, -1, 0, 1, 5, 99, 100, 9999, 10000, THIRTY]
 WORDS = ["a", "z", "share", "abcdefgh", "stuvwxyz"]
 KEYS = [("a", 0), ("share", 2), ("abcdefgh", 99)]
-
-
-def nested(depth):
-    thing = []
-    for step in range(depth):
-        thing = [thing]
-    return thing
-
-
 OTHERS = [
     None, [], {}, (), [0], {"a": 0}, {0: "a"}, (0,), ("a",), ("a", 1, 2), ["a", 1], ["a"], "", "A", "a1", "0",
     "a b", "a\n", "\na", "abcdefghi", nested(29), Terms(0, 0, 0, 0), Licence(("a", 0), 0, 0, 0, 0),
