@@ -1,10 +1,10 @@
 """The texts of books: writing them and reading them."""
 
 from grantweave.book import Book, kept_duties, kept_strings
-from grantweave.errors import BadText, NoKey
+from grantweave.errors import BadText
 from grantweave.joins import join_of, join_words
 from grantweave.licences import Licence
-from grantweave.words import bits_of, is_number_text, is_word, key_of, key_text, mask_of
+from grantweave.words import bits_of, is_key_text, is_number_text, is_word, key_of, key_text, mask_of
 
 DEED_WORDS = ("use", "give", "join", "change", "sell")
 SECTION_COUNT = 12
@@ -58,14 +58,6 @@ def sections_of(words):
         else:
             sections[-1].append(word)
     return sections
-
-
-def is_key_text(text):
-    try:
-        key_of(text)
-    except NoKey:
-        return False
-    return True
 
 
 def is_named_section(section, head, known):

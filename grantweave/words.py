@@ -73,10 +73,13 @@ def is_number_text(text, longest):
     return all([sign in FIGURES for sign in text])
 
 
+def is_key_text(text):
+    halves = text.split(".")
+    return len(halves) == 2 and is_word(halves[0]) and is_number_text(halves[1], 2)
+
+
 def key_of(text):
-    if not isinstance(text, str):
+    if not isinstance(text, str) or not is_key_text(text):
         raise NoKey(text)
     halves = text.split(".")
-    if len(halves) != 2 or not is_word(halves[0]) or not is_number_text(halves[1], 2):
-        raise NoKey(text)
     return (halves[0], int(halves[1]))

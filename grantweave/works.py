@@ -63,6 +63,11 @@ def need_bounds(work):
         raise TooDeep(deep)
 
 
+def has_offer(part, thing):
+    # A tuple with a truth as its number is equal to a key, but is none.
+    return is_key(thing) and thing in part.offers
+
+
 def row_of(work, name):
     for row in walked(work):
         if row[1].name == name:

@@ -8,6 +8,7 @@ from grantweave.errors import BadBeneath, BadOffers, Doubled, NoJoin, NoPart, No
 from grantweave.joins import Called
 from grantweave.works import Part
 from tests.helping import JOINS, ODD_THINGS, Refusing
+from tests.helping import part_name as name
 
 FREE, SHARE = ("free", 1), ("share", 2)
 NO_WORDS = [thing for thing in ODD_THINGS if not isinstance(thing, str)] + ["", "A", "a1", "a b", "abcdefghi", "a.1", "a\n"]
@@ -22,10 +23,6 @@ NO_BENEATH = [thing for thing in ODD_THINGS if thing is not None and thing != []
     "called b", [("called", [Part("b")])], [("called", Book([], [], []))]]
 NO_JOINS = ODD_THINGS + ["join", "Called", "called ", Called(), ("called",), 0, 3]
 NO_NAMES = ODD_THINGS + ["x", "zz", "ap", "appp", "App", "app ", ("app",), ["app"], {"app": 1}, Part("app"), Part("core")]
-
-
-def name(number):
-    return "p" + "abcdefghijklmnopqrstuvwxyz"[number // 26] + "abcdefghijklmnopqrstuvwxyz"[number % 26]
 
 
 def chain(deep, start=0, join="joined"):
