@@ -79,3 +79,7 @@ class Book:
     def coverers(self, key):
         covered = self.licence(key)
         return [other for other in self.by_key if self.by_key[other].covers(covered)]
+
+
+def copied_book(book):
+    return Book(book.string_names(), book.duty_names(), [book.licence(key) for key in book.all_keys()])

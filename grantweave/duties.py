@@ -1,8 +1,8 @@
 """The duties of offers and of choices, and the choice that asks the fewest."""
 
-from grantweave.errors import NoChoice, NoKey, Stopped
+from grantweave.errors import NoChoice, NoKey
 from grantweave.joins import fits
-from grantweave.whole import choice_fits, offered_parts, stops
+from grantweave.whole import choice_fits, need_unstopped, offered_parts, stops
 from grantweave.words import bits_of
 from grantweave.works import has_offer
 
@@ -29,9 +29,7 @@ def least_offer(book, offers, closeness):
 
 
 def least_choice(book, work, key):
-    stopping = stops(book, work, key)
-    if stopping:
-        raise Stopped(stopping[0][0])
+    need_unstopped(stops(book, work, key))
     other = book.licence(key)
     choice = {}
     for part, closeness in offered_parts(work):

@@ -70,13 +70,20 @@ def loosest(joins):
     return least
 
 
-def fit_fault(licence, closeness, other):
+def deed_fault(licence, closeness):
     deed = least_beyond(needed_deeds(closeness), licence.lets)
-    if deed is not None:
-        return ("deed", deed)
-    if licence.reach <= closeness:
+    return None if deed is None else ("deed", deed)
+
+
+def binds(licence, closeness):
+    return licence.reach <= closeness
+
+
+def fit_fault(licence, closeness, other):
+    fault = deed_fault(licence, closeness)
+    if fault is None and binds(licence, closeness):
         return other.fault(licence)
-    return None
+    return fault
 
 
 def fits(licence, closeness, other):

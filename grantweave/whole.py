@@ -1,5 +1,6 @@
 """Under which licences of a book a whole work is told, and which parts stop the others."""
 
+from grantweave.errors import Stopped
 from grantweave.joins import fit_fault, fits
 from grantweave.works import closeness_along, has_offer, walked
 
@@ -36,14 +37,24 @@ def faults_at(book, work, name, key):
     return part_faults(book, part, work.closeness_of(name), book.licence(key))
 
 
-def stops(book, work, key):
-    need_key(book, work, key)
+def stopping_rows(work, faults_of):
     rows = []
     for part, closeness in offered_parts(work):
-        faults = part_faults(book, part, closeness, book.licence(key))
+        faults = faults_of(part, closeness)
         if all_at_fault(faults):
             rows.append((part.name, faults))
     return rows
+
+
+def stops(book, work, key):
+    need_key(book, work, key)
+    other = book.licence(key)
+    return stopping_rows(work, lambda part, closeness: part_faults(book, part, closeness, other))
+
+
+def need_unstopped(stopping):
+    if stopping:
+        raise Stopped(stopping[0][0])
 
 
 def told_keys(book, work):

@@ -103,3 +103,9 @@ class Part:
 
     def told(self):
         return (self.name, self.offers, tuple([(word, part.told()) for word, part in self.beneath]))
+
+
+def with_part(work, name, part):
+    if work.name == name:
+        return part
+    return Part(work.name, work.offers, [(word, with_part(deeper, name, part)) for word, deeper in work.beneath])

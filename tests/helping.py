@@ -28,6 +28,10 @@ def nested(depth):
 ODD_THINGS = [None, True, False, 0, 1, -1, THIRTY, -THIRTY, "", "Ab", "a b", "abcdefghi", "share.2", (), ("a",), ("a", True),
               ("share", False), ("a", 1, 2), ("a", 100), ("a", -1), ["a", 1], [], [[]], {}, {"a": 1}, {1: "a"}, nested(29),
               Terms(0, 0, 0, 0), licence()]
+# Nothing among these is a name of a part, or a key of a book, in the tests that ask for them.
+NO_NAMES = ODD_THINGS + ["x", "App", "app ", ["app"], ("app",)]
+NO_KEYS = ODD_THINGS + [("gone", 1), "free.1", ["free", 1], ("free", True), ("share", True), ("Free", 1), ("free", 3),
+                        (("free", 1),)]
 
 
 def any_book(chance, many=6):
@@ -44,6 +48,21 @@ def any_book(chance, many=6):
                                 chance.random() < 0.3, asks))
     chance.shuffle(licences)
     return Book(strings, duties, licences)
+
+
+def dated_book(chance, many, in_time=False):
+    """A book by chance as any_book tells, its licences of days from 0 to 12; in time: of day 5, and lasting."""
+    plain = any_book(chance, many)
+    licences = []
+    for key in plain.all_keys():
+        first = chance.choice([0, 0, 1, 3])
+        last = chance.choice([5, 8, 10, 9999])
+        licences.append(licence(*plain.licence(key).told()[:7], first, last, in_time or chance.random() < 0.5))
+    return Book(plain.string_names(), plain.duty_names(), licences)
+
+
+def days_for(chance, work, day):
+    return {name: chance.randrange(day + 1) for name in work.all_names()}
 
 
 def any_work(chance, keys, many):

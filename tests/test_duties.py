@@ -10,13 +10,12 @@ from grantweave.duties import due_rows, duties_of, least_choice
 from grantweave.errors import NoChoice, NoKey, NoPart, Stopped
 from grantweave.whole import choice_fits, stops, told_keys
 from grantweave.works import Part
-from tests.helping import JOINS, ODD_THINGS, Refusing, any_book, any_work, from_told, in_reading_order, licence
+from tests.helping import (JOINS, NO_KEYS, NO_NAMES, ODD_THINGS, Refusing, any_book, any_work, from_told,
+                           in_reading_order, licence)
 
 DUTIES = ["list", "copy", "quote", "mail"]
 FREE, FREER, SHARE, MILD, SHUT = ("free", 1), ("free", 2), ("share", 1), ("mild", 1), ("shut", 1)
 GONE, LOST = ("gone", 1), ("lost", 2)
-NO_NAMES = ODD_THINGS + ["x", "App", "app ", ["app"], ("app",)]
-NO_KEYS = ODD_THINGS + [GONE, "free.1", ["free", 1], ("free", True), ("share", True), ("Free", 1), ("free", 3), (FREE,)]
 
 
 def sample_book():

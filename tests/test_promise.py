@@ -4,11 +4,15 @@ import random
 import unittest
 
 from grantweave.booktext import read_book, show_book
+from grantweave.days import stops_on, told_on
 from grantweave.duties import due_rows, duties_of, least_choice
-from grantweave.errors import NoKey, Stopped
+from grantweave.errors import Doubled, NoKey, NoPart, Stopped
+from grantweave.office import Office
+from grantweave.own import chain_holds, own_terms
+from grantweave.steps import given_on, stepped, whole_choice
 from grantweave.whole import choice_fits, faults_at, least_told, stops, told_keys
 from grantweave.worktext import read_work, show_work
-from tests.helping import Refusing, any_book, any_work
+from tests.helping import Refusing, any_book, any_work, dated_book, days_for
 
 BOOK = """strings open named
 duties list copy
@@ -55,6 +59,33 @@ class FromTexts(Refusing):
         self.alike(stops(self.book, closer, SHARE), [("clock", [(SHUT, ("lets", 2))])])
         self.alike(stops(self.book, closer, SHARER), [("clock", [(SHUT, ("lets", 2))])])
 
+    def test_steps_and_the_choice_of_the_whole(self):
+        steps = [("deep", FREE), ("core", SHARE)]
+        behind = stepped(self.book, self.work, steps)
+        self.assertEqual(show_work(behind), "app\n- joined core share.2\n- beside art free.1 share.2")
+        self.alike(told_keys(self.book, behind), [SHARE, SHARER])
+        choice = whole_choice(self.book, self.work, steps, SHARER)
+        self.assertIs(choice_fits(self.book, self.work, SHARER, choice), True)
+        self.refused(NoPart, "deep", lambda: given_on(self.book, behind, "deep", FREE))
+
+    def test_terms_of_ones_own(self):
+        self.alike(own_terms(self.book, self.work), ("stopped", "core", [(SHARE, ("same",))]))
+        looser = read_work(WORK.replace("- joined core", "- beside core"))
+        told = own_terms(self.book, looser)
+        self.assertEqual(told[:2], ("own", {"core": SHARE, "clock": SHUT, "deep": FREE, "art": FREE}))
+        self.assertEqual(told[2].told(), (31, 0, 0, 3))
+
+    def test_days_and_an_office(self):
+        book = read_book(BOOK.replace("from 0 to 9999 ; ends", "from 5 to 50 ; ends"))
+        taken = {"core": 1, "clock": 5, "deep": 3, "art": 0}
+        self.alike(told_on(book, self.work, taken, 50), [SHARE, SHARER])
+        self.alike(stops_on(book, self.work, taken, 51, SHARE), [("clock", [(SHUT, ("ended", 50))])])
+        office = Office(book)
+        office.give_out("first", self.work, taken, SHARE, 50)
+        self.refused(Doubled, "first", lambda: office.give_out("first", self.work, taken, SHARE, 51))
+        self.refused(Stopped, "clock", lambda: office.give_out("second", self.work, taken, SHARE, 51))
+        self.alike((office.givings(), office.ended(50), office.ended(51)), ([("first", SHARE, 50)], [], ["first"]))
+
     def test_a_work_of_another_book(self):
         other = read_book("\n".join(BOOK.split("\n")[:3]))
         self.refused(NoKey, SHARE, lambda: told_keys(other, self.work))
@@ -87,6 +118,33 @@ class OfEveryBookAndWork(Refusing):
                         self.assertEqual([offer for offer, fault in faults], list(work.at(name).offers))
                         self.assertNotIn(None, [fault for offer, fault in faults])
         self.assertGreater(min(told_once, stopped_once), 40)
+
+    def test_steps_own_terms_and_days(self):
+        chance = random.Random(9)
+        seen = {}
+        for turn in range(150):
+            book = dated_book(chance, chance.randrange(2, 13))
+            work = any_work(chance, book.all_keys(), chance.randrange(1, 7))
+            again, alike = read_book(show_book(book)), read_work(show_work(work))
+            name = chance.choice(work.all_names())
+            for key in told_keys(book, work.at(name)):
+                behind = given_on(book, work, name, key)
+                self.alike(given_on(again, alike, name, key).told(), behind.told())
+                self.assertLessEqual(set(told_keys(book, behind)), set(told_keys(book, work)))
+                seen["step"] = seen.get("step", 0) + 1
+            told = own_terms(again, alike)
+            seen[told[0]] = seen.get(told[0], 0) + 1
+            if told[0] == "clash":
+                for chain in told[2]:
+                    self.assertIs(chain_holds(book, work, chain), True)
+            if told[0] == "own":
+                bound = [book.licence(offer) for part, offer in told[1].items() if book.licence(offer).reach <= work.closeness_of(part)]
+                self.assertTrue(all(told[2].covers(one) for one in bound))
+            taken = days_for(chance, work, 4)
+            self.alike(told_on(again, alike, taken, 8), told_on(book, work, taken, 8))
+            self.assertLessEqual(set(told_on(book, work, taken, 8)), set(told_on(book, work, taken, 4)))
+            self.assertLessEqual(set(told_on(book, work, taken, 4)), set(told_keys(book, work)))
+        self.assertEqual(set(seen), {"step", "own", "stopped", "clash"})
 
 
 if __name__ == "__main__":

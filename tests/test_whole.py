@@ -9,13 +9,11 @@ from grantweave.booktext import show_book
 from grantweave.errors import NoKey, NoPart
 from grantweave.whole import choice_fits, faults_at, least_told, need_known, stops, told_keys
 from grantweave.works import Part
-from tests.helping import (JOINS, ODD_THINGS, Refusing, any_book, any_work, due_fault, from_told, in_reading_order,
-                           licence)
+from tests.helping import (JOINS, NO_KEYS, NO_NAMES, ODD_THINGS, Refusing, any_book, any_work, due_fault, from_told,
+                           in_reading_order, licence)
 
 FREE, FREER, SHARE, SHARER, MILD, SHUT = (("free", 1), ("free", 2), ("share", 1), ("share", 2), ("mild", 1), ("shut", 1))
 GONE, LOST = ("gone", 1), ("lost", 2)
-NO_NAMES = ODD_THINGS + ["x", "App", "app ", ["app"], ("app",)]
-NO_KEYS = ODD_THINGS + [GONE, "free.1", ["free", 1], ("free", True), ("share", True), ("Free", 1), ("free", 3), (FREE,)]
 
 
 def sample_book(order=1):
