@@ -118,8 +118,12 @@ def forced_clash(laid, forced):
     return None
 
 
+def clashes_with_any(laid, one, picks):
+    return any([do_clash(laid, one, other) for other in picks])
+
+
 def has_clash(laid, picks):
-    return any([any([do_clash(laid, one, other) for other in picks]) for one in picks])
+    return any([clashes_with_any(laid, one, picks) for one in picks])
 
 
 def free_choice(laid, forced):

@@ -24,6 +24,21 @@ def kept_offers(offers):
     return tuple(offers)
 
 
+def need_few_beneath(many):
+    if many > MOST_BENEATH:
+        raise TooMany(many)
+
+
+def need_few_parts(many):
+    if many > MOST_PARTS:
+        raise TooMany(many)
+
+
+def need_not_deep(deep):
+    if deep > MOST_DEEP:
+        raise TooDeep(deep)
+
+
 def is_joined_part(thing):
     return isinstance(thing, tuple) and len(thing) == 2 and isinstance(thing[1], Part)
 
@@ -33,8 +48,7 @@ def kept_beneath(beneath):
         return ()
     if not isinstance(beneath, (list, tuple)) or not all([is_joined_part(thing) for thing in beneath]):
         raise BadBeneath(beneath)
-    if len(beneath) > MOST_BENEATH:
-        raise TooMany(len(beneath))
+    need_few_beneath(len(beneath))
     for row in beneath:
         # Asked for its refusal alone.
         join_of(row[0])
@@ -49,18 +63,18 @@ def walked(work):
     return rows
 
 
+def depth_of(work):
+    return 1 + max([len(road) for road, part in walked(work)])
+
+
 def need_bounds(work):
-    rows = walked(work)
     names = []
-    for road, part in rows:
+    for road, part in walked(work):
         if part.name in names:
             raise Doubled(part.name)
         names.append(part.name)
-    if len(names) > MOST_PARTS:
-        raise TooMany(len(names))
-    deep = 1 + max([len(road) for road, part in rows])
-    if deep > MOST_DEEP:
-        raise TooDeep(deep)
+    need_few_parts(len(names))
+    need_not_deep(depth_of(work))
 
 
 def has_offer(part, thing):

@@ -1,16 +1,21 @@
-"""Point 8 as far as it is built: from the texts of a book and a work to what is told of them."""
+"""Point 8: from the texts of a book and a work to what is told of them, and on to folders and a desk."""
 
 import random
 import unittest
 
 from grantweave.booktext import read_book, show_book
+from grantweave.changes import compared_works, put_beneath, rejoined, taken_out
 from grantweave.days import stops_on, told_on
+from grantweave.desk import Desk
 from grantweave.duties import due_rows, duties_of, least_choice
 from grantweave.errors import Doubled, NoKey, NoPart, Stopped
+from grantweave.folders import folder_of, left_out, lets_by, read_folder, show_folder, spare
 from grantweave.office import Office
 from grantweave.own import chain_holds, own_terms
+from grantweave.prices import loosened
 from grantweave.steps import given_on, stepped, whole_choice
 from grantweave.whole import choice_fits, faults_at, least_told, stops, told_keys
+from grantweave.works import Part
 from grantweave.worktext import read_work, show_work
 from tests.helping import Refusing, any_book, any_work, dated_book, days_for
 
@@ -86,6 +91,41 @@ class FromTexts(Refusing):
         self.refused(Stopped, "clock", lambda: office.give_out("second", self.work, taken, SHARE, 51))
         self.alike((office.givings(), office.ended(50), office.ended(51)), ([("first", SHARE, 50)], [], ["first"]))
 
+    def test_changes_and_prices(self):
+        closer = rejoined(self.work, "clock", "beside")
+        self.alike(compared_works(self.book, self.work, closer), ([(SHARE, "clock"), (SHARER, "clock")], []))
+        self.alike(loosened(self.book, closer, SHARE, {"core": 9, "clock": 2, "deep": 1, "art": 1}), ("loose", 2, ["clock"], {"clock": 2}))
+        self.alike(loosened(self.book, self.work, FREE, {"core": 9, "clock": 2, "deep": 1, "art": 1}), ("loose", 9, ["core"], {"core": 9}))
+        self.alike(loosened(self.book, put_beneath(self.work, "app", "called", Part("new")), SHARE, {
+            "core": 0, "clock": 0, "deep": 0, "art": 0, "new": 0}), ("told",))
+        self.alike(told_keys(self.book, taken_out(self.work, "core")), [FREE, SHARE, SHUT, SHARER])
+
+    def test_folders(self):
+        choice = least_choice(self.book, self.work, SHARER)
+        text = show_folder(folder_of(self.book, self.work, SHARER, choice))
+        self.assertEqual(text, "under share.3\ntake art free.1\ntake clock shut.1\ntake core share.2\ntake deep free.1\n"
+                               "owe list core share.2 joined core\nowe list deep free.1 joined core changed deep\n"
+                               "owe list art free.1 beside art\nowe copy core share.2 joined core")
+        self.assertIs(lets_by(self.book, self.work, read_folder(text)), True)
+        shorter = read_folder(text.replace("\nowe list art free.1 beside art", "\nowe copy art free.1"))
+        self.assertIs(lets_by(self.book, self.work, shorter), False)
+        self.alike(left_out(self.book, self.work, shorter), [("list", "art", FREE, (("beside", "art"),))])
+        self.alike(spare(self.book, self.work, shorter), [("copy", "art", FREE, ())])
+
+    def test_a_desk(self):
+        desk = Desk()
+        rows = [("book " + BOOK.replace("\n", " / "), "ok"), ("work app " + WORK.replace("\n", " / "), "ok"), ("told app", "share.2 share.3"),
+                ("least app", "share.2"), ("stops app free.1", "core share.2 lets sell"), ("own app", "stopped core"),
+                ("duties app share.3", "list core share.2; list deep free.1; list art free.1; copy core share.2"),
+                ("loose app free.1 core 9 clock 2 deep 1 art 1", "loose 9"), ("join app clock beside", "ok"), ("told app", "none"),
+                ("stops app share.3", "clock shut.1 lets join"), ("work old " + WORK.replace("\n", " / "), "ok"),
+                ("lost old app", "share.2 clock; share.3 clock / none"), ("take old core 1", "ok"), ("take old clock 5", "ok"),
+                ("take old deep 3", "ok"), ("take old art 0", "ok"), ("on old 50", "share.2 share.3"), ("give first old share.2 50", "ok"),
+                ("givings", "first share.2 50"), ("ended 51", "none"), ("step old core share.3", "ok"),
+                ("show old", "app / - joined core share.3 / - beside art free.1 share.2")]
+        for line, due in rows:
+            self.alike(desk.say(line), due)
+
     def test_a_work_of_another_book(self):
         other = read_book("\n".join(BOOK.split("\n")[:3]))
         self.refused(NoKey, SHARE, lambda: told_keys(other, self.work))
@@ -145,6 +185,28 @@ class OfEveryBookAndWork(Refusing):
             self.assertLessEqual(set(told_on(book, work, taken, 8)), set(told_on(book, work, taken, 4)))
             self.assertLessEqual(set(told_on(book, work, taken, 4)), set(told_keys(book, work)))
         self.assertEqual(set(seen), {"step", "own", "stopped", "clash"})
+
+    def test_prices_and_folders(self):
+        chance = random.Random(10)
+        seen = set()
+        for turn in range(60):
+            book = any_book(chance, chance.randrange(2, 13))
+            work = any_work(chance, book.all_keys(), chance.randrange(1, 10))
+            again, alike = read_book(show_book(book)), read_work(show_work(work))
+            prices = {name: chance.randrange(9) for name in work.all_names()[1:]}
+            for key in book.all_keys():
+                told = loosened(book, work, key, prices)
+                self.alike(loosened(again, alike, key, dict(prices)), told)
+                seen.add(told[0])
+                if told[0] == "told":
+                    folder = folder_of(book, work, key, least_choice(book, work, key))
+                    self.assertIs(lets_by(again, alike, read_folder(show_folder(folder))), True)
+                if told[0] == "loose":
+                    for name in told[2]:
+                        alike = rejoined(alike, name, "called")
+                    self.assertIn(key, told_keys(again, alike))
+                    alike = read_work(show_work(work))
+        self.assertEqual(seen, {"told", "never", "loose"})
 
 
 if __name__ == "__main__":
